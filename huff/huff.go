@@ -95,11 +95,7 @@ func (t *Table) lay(symbol, length int) {
 	row, rest := 0, length
 	path := turned(t.codes[symbol], length)
 	for rest > rowBits {
-		at := row + path%rowSize
-		if t.cells[at].further == 0 {
-			t.cells[at].further = t.addRow()
-		}
-		row = t.cells[at].further
+		row = t.rowBehind(row + path%rowSize)
 		path >>= rowBits
 		rest -= rowBits
 	}
@@ -107,6 +103,17 @@ func (t *Table) lay(symbol, length int) {
 	for i := path; i < rowSize; i += 1 << rest {
 		t.cells[row+i] = cell{symbol: symbol, length: length}
 	}
+}
+
+// rowBehind: where the row begins that a cell leads to; it is added, where there is none yet.
+func (t *Table) rowBehind(at int) int {
+	if t.cells[at].further > 0 {
+		return t.cells[at].further
+	}
+	// In a statement of its own: addRow may put another list of cells in the place of this one, and the link belongs into that.
+	further := t.addRow()
+	t.cells[at].further = further
+	return further
 }
 
 // addRow: where the row that it adds begins.

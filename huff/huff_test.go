@@ -288,6 +288,23 @@ func TestNextOfEachCode(t *testing.T) {
 	}
 }
 
+// Codes that are looked up in two rows and in three: each link to a further row must hold, however the list of rows grows while they are laid.
+func TestNextOfLongCodes(t *testing.T) {
+	checkEach(t, repeated(6, 64))
+	checkEach(t, repeated(7, 128))
+	checkEach(t, append([]int{1, 2}, repeated(11, 512)...))
+	checkEach(t, append(repeated(11, 512), 2, 1))
+	checkEach(t, append(repeated(15, 512), 1, 2, 3, 4, 5, 6))
+	checkEach(t, slices.Concat(repeated(15, 256), repeated(6, 62), repeated(7, 2), repeated(11, 16)))
+}
+
+func TestNextOfSixBitsOfNought(t *testing.T) {
+	r := bits.Open("\x00")
+	if s, err := table(t, repeated(6, 64)).Next(r); s != 0 || err != api.OK || r.Taken() != 6 {
+		t.Errorf("%d, %d, %d taken", s, err, r.Taken())
+	}
+}
+
 func TestNextOfRows(t *testing.T) {
 	c := chance(3)
 	for range 100 {
